@@ -1,0 +1,146 @@
+package machine
+
+import (
+	"thunk/api"
+)
+
+// function is a program's own.
+type function struct {
+	takes int // how many arguments: they come to lie in the first slots
+	body  *term
+}
+
+// program is one that is made ready for the machine.
+type program struct {
+	functions []function
+	main      *term
+	terms     []*term // by their numbers
+	constants []fixed // by their numbers
+	width     int     // how many slots a function has at most
+}
+
+// compiler makes a program ready in which each name is bound once.
+type compiler struct {
+	program
+	foresight
+	constantNumbers
+	functionNumbers map[string]int
+	slots           map[string]int // of what is bound
+	used            int            // how many slots the function has, as far as it was gone through
+}
+
+func compiled(p api.Prog, early bool) program {
+	c := compiler{foresight: newForesight(p, early), constantNumbers: constantNumbers{}, functionNumbers: map[string]int{}, slots: map[string]int{}}
+	c.firstConstants()
+	for i, sup := range p.Sups {
+		c.functionNumbers[sup.Name] = i
+	}
+	for _, sup := range p.Sups {
+		c.functions = append(c.functions, function{len(sup.Params), c.whole(sup.Body, sup.Params...)})
+	}
+	c.main = c.whole(p.Main)
+	return c.program
+}
+
+// whole is the body of a function with these parameters.
+func (c *compiler) whole(body api.Expr, params ...string) *term {
+	c.used = 0
+	c.bind(params...)
+	t := c.term(body)
+	c.width = max(c.width, c.used)
+	return t
+}
+
+// bind gives the names slots, one behind the other, and tells the first.
+func (c *compiler) bind(names ...string) int {
+	first := c.used
+	for i, name := range names {
+		c.slots[name] = first + i
+	}
+	c.used += len(names)
+	return first
+}
+
+func (c *compiler) add(t term) *term {
+	t.number = len(c.terms)
+	c.terms = append(c.terms, &t)
+	return &t
+}
+
+func (c *compiler) term(e api.Expr) *term {
+	switch e.Kind {
+	case api.EVar:
+		return c.name(e)
+	case api.EApp:
+		return c.add(term{kind: application, parts: c.all(e.A...)})
+	case api.EIf:
+		return c.add(term{kind: choice, parts: c.all(e.A...)})
+	case api.ELet:
+		return c.let(e, c.order(e))
+	case api.EPrim:
+		if isCons(e) {
+			return c.add(term{kind: pairing, parts: c.all(e.A...)})
+		}
+		return c.add(term{kind: primitive, text: e.Text, parts: c.all(e.A...)})
+	}
+	return c.constant(e)
+}
+
+func (c *compiler) all(l ...api.Expr) (made []*term) {
+	for _, e := range l {
+		made = append(made, c.term(e))
+	}
+	return made
+}
+
+// name is a slot, a function that was given nothing, or what is read.
+func (c *compiler) name(e api.Expr) *term {
+	if slot, is := c.slots[e.Text]; is {
+		return c.add(term{kind: variable, place: slot})
+	}
+	if _, is := c.functionNumbers[e.Text]; is {
+		return c.constant(e)
+	}
+	return c.add(term{kind: reading})
+}
+
+func (c *compiler) constant(e api.Expr) *term {
+	return c.add(term{kind: constant, place: c.constantNumber(e)})
+}
+
+// let has what is reckoned outright around all else, one within the other.
+func (c *compiler) let(e api.Expr, o order) *term {
+	if len(o.outright) == 0 {
+		return c.cells(e, o)
+	}
+	i := o.outright[0]
+	o.outright = o.outright[1:]
+	value := c.term(e.A[i])
+	slot := c.bind(e.Names[i])
+	return c.add(term{kind: outright, place: slot, parts: []*term{value, c.let(e, o)}})
+}
+
+// cells is what is left of a let.
+func (c *compiler) cells(e api.Expr, o order) *term {
+	var names []string
+	var values []api.Expr
+	for _, i := range o.cells {
+		names, values = append(names, e.Names[i]), append(values, e.A[i])
+	}
+	slot := c.bind(names...)
+	parts := c.all(values...)
+	body := c.body(e, o.first...)
+	if len(parts) == 0 {
+		return body
+	}
+	return c.add(term{kind: lets, place: slot, parts: append(parts, body)})
+}
+
+// body is what a let comes to, behind those of its values that are reckoned first.
+func (c *compiler) body(e api.Expr, first ...int) *term {
+	if len(first) == 0 {
+		return c.term(e.A[len(e.Names)])
+	}
+	name := api.Expr{Kind: api.EVar, Text: e.Names[first[0]]}
+	return c.add(term{kind: primitive, text: "seq", parts: []*term{c.name(name), c.body(e, first[1:]...)}})
+}
