@@ -2,6 +2,7 @@ package core
 
 import (
 	"thunk/api"
+	"thunk/chain"
 )
 
 // around is how many of the terms around have each name: one may be bound again within, and is bound still when that one ends.
@@ -31,12 +32,16 @@ type finder struct {
 
 // term finds what is free in e. Its names are bound in all its parts, as those of a let are in their values, too.
 func (f finder) term(e api.Expr) {
-	if e.Kind == api.EVar && !f.has(e.Text) {
-		f.free[e.Text] = struct{}{}
+	var bound []string
+	for x, ahead := range chain.Of(e) {
+		if x.Kind == api.EVar && !f.has(x.Text) {
+			f.free[x.Text] = struct{}{}
+		}
+		f.enter(x.Names...)
+		bound = append(bound, x.Names...)
+		for _, part := range ahead {
+			f.term(part)
+		}
 	}
-	f.enter(e.Names...)
-	for _, part := range e.A {
-		f.term(part)
-	}
-	f.leave(e.Names...)
+	f.leave(bound...)
 }

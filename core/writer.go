@@ -4,6 +4,7 @@ import (
 	"strings"
 
 	"thunk/api"
+	"thunk/chain"
 )
 
 // writer is a text that grows, and knows how a term is put behind it: all parts go into the one text, as a text for each would be copied again for every term around it.
@@ -15,7 +16,18 @@ func (w *writer) put(texts ...string) {
 	}
 }
 
+// term writes e. Lets that it begins with are ended together behind what stands within them all.
 func (w *writer) term(e api.Expr) {
+	lets, body := chain.Lets(e)
+	for _, let := range lets {
+		w.bindings(let.Names, let.A...)
+		w.put(" ")
+	}
+	w.other(body)
+	w.put(strings.Repeat(")", len(lets)))
+}
+
+func (w *writer) other(e api.Expr) {
 	switch e.Kind {
 	case api.EInt, api.EBool, api.EVar:
 		w.put(e.Text)
@@ -48,20 +60,25 @@ func (w *writer) form(head string, parts ...api.Expr) {
 	w.put(")")
 }
 
-// let writes each name with its value, then what is left. Of what is no right term there may be more names than parts.
-func (w *writer) let(names []string, parts ...api.Expr) {
-	bound := min(len(names), len(parts))
+// bindings writes how a let begins: each name with its value.
+func (w *writer) bindings(names []string, values ...api.Expr) {
 	w.put("(let (")
-	for i, value := range parts[:bound] {
+	for i, value := range values {
 		if i > 0 {
 			w.put(" ")
 		}
 		w.form(names[i], value)
 	}
 	w.put(")")
-	for _, body := range parts[bound:] {
+}
+
+// let writes a let that is no right term: there may be more names than parts.
+func (w *writer) let(names []string, parts ...api.Expr) {
+	bound := min(len(names), len(parts))
+	w.bindings(names, parts[:bound]...)
+	for _, part := range parts[bound:] {
 		w.put(" ")
-		w.term(body)
+		w.term(part)
 	}
 	w.put(")")
 }

@@ -2,13 +2,12 @@ package expand
 
 import (
 	"thunk/api"
-	"thunk/datum"
 	"thunk/rules"
 )
 
 const maxFilled = 20000 // as great a Size as what is filled may have
 
-// fill is what the first rule of the use's form makes of it.
+// fill is what the first rule of the use's form makes of it. How great that is it reckons ahead: a long row, or a great datum, that a template has again and again would fill all memory.
 func (s *syntax) fill(use api.Datum, mark int) (api.Datum, api.Errno) {
 	use = headless(use)
 	for _, r := range s.rules {
@@ -16,7 +15,7 @@ func (s *syntax) fill(use api.Datum, mark int) (api.Datum, api.Errno) {
 		if !is {
 			continue
 		}
-		size, is := filledSize(r.template, bound)
+		size, is := newSizer(bound...).size(r.template, 1, 0)
 		if !is {
 			continue
 		}
@@ -27,29 +26,4 @@ func (s *syntax) fill(use api.Datum, mark int) (api.Datum, api.Errno) {
 		return d, api.OK
 	}
 	return api.Datum{}, api.ErrMatch
-}
-
-// filledSize is the Size of what template is filled as, reckoned ahead of it: a great datum, brought once more for each of a long row, would fill all memory.
-func filledSize(template api.Datum, l []rules.Bound) (int, bool) {
-	d, is := rules.Fill(template, standIns(l), 0)
-	return standInSize(d), is
-}
-
-// standIns is l with a small datum for each, at a place that tells its Size; what the template brings itself is at 0.
-func standIns(l []rules.Bound) []rules.Bound {
-	small := make([]rules.Bound, 0, len(l))
-	for _, b := range l {
-		d := api.Datum{Kind: api.DInt, At: datum.Size(b.D)}
-		small = append(small, rules.Bound{Name: b.Name, Deep: b.Deep, D: d, L: standIns(b.L)})
-	}
-	return small
-}
-
-// standInSize is the Size that d would have with what its small data stand for.
-func standInSize(d api.Datum) int {
-	size := max(d.At, 1)
-	for _, part := range d.L {
-		size += standInSize(part)
-	}
-	return size
 }

@@ -2,6 +2,7 @@ package lift
 
 import (
 	"thunk/api"
+	"thunk/chain"
 )
 
 // input is the name of what is read: it is there for all, and handed to none.
@@ -58,13 +59,15 @@ type finder struct {
 
 // term goes through e, which stands in the function of that number.
 func (f *finder) term(e api.Expr, in int) {
-	switch e.Kind {
-	case api.EVar:
-		f.ask(e.Text, in)
-	case api.ELet:
-		f.let(e, in)
-	default:
-		f.terms(in, e.A...)
+	for x, ahead := range chain.Of(e) {
+		switch x.Kind {
+		case api.EVar:
+			f.ask(x.Text, in)
+		case api.ELet:
+			f.let(x, in, ahead...)
+		default:
+			f.terms(in, ahead...)
+		}
 	}
 }
 
@@ -83,8 +86,8 @@ func (f *finder) ask(name string, in int) {
 	}
 }
 
-// let takes in all functions of a let ahead of those within its parts.
-func (f *finder) let(e api.Expr, in int) {
+// let takes in all functions of a let ahead of those within its values.
+func (f *finder) let(e api.Expr, in int, values ...api.Expr) {
 	number := len(f.functions)
 	for i, name := range e.Names {
 		if isFunction(e, i) {
@@ -93,13 +96,13 @@ func (f *finder) let(e api.Expr, in int) {
 			f.bind(in, name)
 		}
 	}
-	for i, part := range e.A {
+	for i, value := range values {
 		if isFunction(e, i) {
-			f.bind(number, part.Names...)
-			f.terms(number, part.A...)
+			f.bind(number, value.Names...)
+			f.terms(number, value.A...)
 			number++
 		} else {
-			f.term(part, in)
+			f.term(value, in)
 		}
 	}
 }

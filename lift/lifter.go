@@ -5,6 +5,7 @@ import (
 	"slices"
 
 	"thunk/api"
+	"thunk/chain"
 )
 
 // lifter makes terms without functions in them.
@@ -39,14 +40,24 @@ func (l lifter) body(parts ...api.Expr) api.Expr {
 	return l.term(parts[len(parts)-1])
 }
 
+// term is e without functions. Of a let that had nothing else nothing is left but its last part.
 func (l lifter) term(e api.Expr) api.Expr {
+	lets, body := chain.Lets(e)
+	var made []api.Expr
+	for _, let := range lets {
+		if let = l.let(let); len(let.Names) > 0 {
+			made = append(made, let)
+		}
+	}
+	return chain.Join(append(made, l.other(body))...)
+}
+
+func (l lifter) other(e api.Expr) api.Expr {
 	switch e.Kind {
 	case api.EVar:
 		return l.name(e)
 	case api.EApp:
 		return l.call(e)
-	case api.ELet:
-		return l.let(e)
 	}
 	return api.Expr{Kind: e.Kind, Text: e.Text, Names: e.Names, A: l.terms(e.A...)}
 }
@@ -80,20 +91,13 @@ func (l lifter) call(e api.Expr) api.Expr {
 	return api.Expr{Kind: api.EApp, A: parts}
 }
 
-// let is what is left of a let without its functions.
+// let is what is left of a let's names and values without its functions.
 func (l lifter) let(e api.Expr) api.Expr {
 	made := api.Expr{Kind: api.ELet}
-	for i, part := range e.A {
-		if isFunction(e, i) {
-			continue
+	for i, value := range e.A {
+		if !isFunction(e, i) {
+			made.Names, made.A = append(made.Names, e.Names[i]), append(made.A, l.term(value))
 		}
-		if i < len(e.Names) {
-			made.Names = append(made.Names, e.Names[i])
-		}
-		made.A = append(made.A, l.term(part))
-	}
-	if len(made.Names) == 0 && len(made.A) > 0 {
-		return made.A[len(made.A)-1]
 	}
 	return made
 }

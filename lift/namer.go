@@ -4,6 +4,7 @@ import (
 	"strconv"
 
 	"thunk/api"
+	"thunk/chain"
 )
 
 // isFunction tells whether the part i of e is a function that a let gives a name.
@@ -23,8 +24,17 @@ func (n *namer) next() string {
 	return "%l." + strconv.Itoa(n.given)
 }
 
-// term is e with a let around each function that has no name. A function gets its name ahead of those within it.
+// term is e with a let around each function that has no name.
 func (n *namer) term(e api.Expr) api.Expr {
+	lets, body := chain.Lets(e)
+	for i, let := range lets {
+		lets[i] = n.within(let)
+	}
+	return chain.Join(append(lets, n.other(body))...)
+}
+
+// other is e likewise, which is no let. A function gets its name ahead of those within it.
+func (n *namer) other(e api.Expr) api.Expr {
 	if e.Kind != api.ELam {
 		return n.within(e)
 	}

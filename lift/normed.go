@@ -4,6 +4,7 @@ import (
 	"strings"
 
 	"thunk/api"
+	"thunk/chain"
 	"thunk/norm"
 )
 
@@ -41,6 +42,14 @@ func normed(p api.Prog) api.Prog {
 
 // renamed is e, other names in it.
 func renamed(e api.Expr, other func(name string) string) api.Expr {
+	lets, body := chain.Lets(e)
+	for i, let := range lets {
+		lets[i] = partsRenamed(let, other)
+	}
+	return chain.Join(append(lets, partsRenamed(body, other))...)
+}
+
+func partsRenamed(e api.Expr, other func(name string) string) api.Expr {
 	made := api.Expr{Kind: e.Kind, Text: e.Text}
 	if e.Kind == api.EVar {
 		made.Text = other(e.Text)

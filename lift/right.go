@@ -4,6 +4,7 @@ import (
 	"slices"
 
 	"thunk/api"
+	"thunk/chain"
 	"thunk/core"
 	"thunk/norm"
 )
@@ -43,5 +44,10 @@ func termRight(e api.Expr, known ...names) bool {
 }
 
 func hasLambda(e api.Expr) bool {
-	return e.Kind == api.ELam || slices.ContainsFunc(e.A, hasLambda)
+	for x, ahead := range chain.Of(e) {
+		if x.Kind == api.ELam || slices.ContainsFunc(ahead, hasLambda) {
+			return true
+		}
+	}
+	return false
 }

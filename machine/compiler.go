@@ -2,6 +2,7 @@ package machine
 
 import (
 	"thunk/api"
+	"thunk/chain"
 )
 
 // function is a program's own.
@@ -67,7 +68,22 @@ func (c *compiler) add(t term) *term {
 	return &t
 }
 
+// term has lets, each within the one ahead of it, put one at the place of the last part of the other.
 func (c *compiler) term(e api.Expr) *term {
+	var whole *term
+	place := &whole
+	lets, body := chain.Lets(e)
+	most := mostEarly
+	for _, let := range lets {
+		o := c.order(let, most)
+		most -= o.early()
+		place = c.let(place, let, o)
+	}
+	*place = c.other(body)
+	return whole
+}
+
+func (c *compiler) other(e api.Expr) *term {
 	switch e.Kind {
 	case api.EVar:
 		return c.name(e)
@@ -75,8 +91,6 @@ func (c *compiler) term(e api.Expr) *term {
 		return c.add(term{kind: application, parts: c.all(e.A...)})
 	case api.EIf:
 		return c.add(term{kind: choice, parts: c.all(e.A...)})
-	case api.ELet:
-		return c.let(e, c.order(e))
 	case api.EPrim:
 		if isCons(e) {
 			return c.add(term{kind: pairing, parts: c.all(e.A...)})
@@ -108,39 +122,36 @@ func (c *compiler) constant(e api.Expr) *term {
 	return c.add(term{kind: constant, place: c.constantNumber(e)})
 }
 
-// let has what is reckoned outright around all else, one within the other.
-func (c *compiler) let(e api.Expr, o order) *term {
-	if len(o.outright) == 0 {
-		return c.cells(e, o)
-	}
-	i := o.outright[0]
-	o.outright = o.outright[1:]
-	value := c.term(e.A[i])
-	slot := c.bind(e.Names[i])
-	return c.add(term{kind: outright, place: slot, parts: []*term{value, c.let(e, o)}})
+// put puts t at a place, and tells the place of its last part, which is still to come.
+func (c *compiler) put(place **term, t term) **term {
+	t.parts = append(t.parts, nil)
+	*place = c.add(t)
+	return &t.parts[len(t.parts)-1]
 }
 
-// cells is what is left of a let.
-func (c *compiler) cells(e api.Expr, o order) *term {
+// let has what is reckoned outright around all else, one within the other, then the cells, then what is reckoned first of these.
+func (c *compiler) let(place **term, e api.Expr, o order) **term {
+	for _, i := range o.outright {
+		value := c.term(e.A[i])
+		place = c.put(place, term{kind: outright, place: c.bind(e.Names[i]), parts: []*term{value}})
+	}
+	if len(o.cells) > 0 {
+		place = c.cells(place, e, o.cells...)
+	}
+	for _, i := range o.first {
+		name := c.name(api.Expr{Kind: api.EVar, Text: e.Names[i]})
+		place = c.put(place, term{kind: primitive, text: "seq", parts: []*term{name}})
+	}
+	return place
+}
+
+// cells has those values of a let that are not reckoned outright made.
+func (c *compiler) cells(place **term, e api.Expr, which ...int) **term {
 	var names []string
 	var values []api.Expr
-	for _, i := range o.cells {
+	for _, i := range which {
 		names, values = append(names, e.Names[i]), append(values, e.A[i])
 	}
 	slot := c.bind(names...)
-	parts := c.all(values...)
-	body := c.body(e, o.first...)
-	if len(parts) == 0 {
-		return body
-	}
-	return c.add(term{kind: lets, place: slot, parts: append(parts, body)})
-}
-
-// body is what a let comes to, behind those of its values that are reckoned first.
-func (c *compiler) body(e api.Expr, first ...int) *term {
-	if len(first) == 0 {
-		return c.term(e.A[len(e.Names)])
-	}
-	name := api.Expr{Kind: api.EVar, Text: e.Names[first[0]]}
-	return c.add(term{kind: primitive, text: "seq", parts: []*term{c.name(name), c.body(e, first[1:]...)}})
+	return c.put(place, term{kind: lets, place: slot, parts: c.all(values...)})
 }

@@ -4,16 +4,17 @@ import (
 	"slices"
 
 	"thunk/api"
+	"thunk/chain"
 	"thunk/strict"
 )
 
-// mostEarly is how many values of one let are reckoned early. While one is reckoned, all that is there waits: with very many values that would be much more than they are themselves.
+// mostEarly is how many values of one let, or of lets one within the other, are reckoned early. While one is reckoned, all that is there waits: with very many values that would be much more than they are themselves.
 const mostEarly = 100
 
 // foresight is what must be reckoned, as far as it is known ahead.
 type foresight struct {
 	needs map[string]strict.Need // of functions, by their names
-	found map[string]names       // of lets, by the first of their names: which of these have values that must be reckoned whenever the let is
+	found map[string]names       // of lets, by the first of their names: which of these, and of other lets', have values that must be reckoned whenever the let is
 }
 
 // newForesight is that of p; if nothing is to be reckoned early, nothing is known.
@@ -45,17 +46,35 @@ func needsOf(sups ...api.Sup) []strict.Need {
 	return strict.Needs(all)
 }
 
-// look finds out of each let in e what must be reckoned. It answers a term that demands what e does, in which each let is short: else what stands deep within lets would be gone through for each of them.
+// look finds out of each let in e what must be reckoned. It answers a term that demands what e does, in which each let is short: else what stands deep within lets would be gone through for each of them. As no name is bound twice, lets that e begins with are as one that binds all their names.
 func (f foresight) look(e api.Expr) api.Expr {
-	made := api.Expr{Kind: e.Kind, Text: e.Text, Names: e.Names}
-	for _, part := range e.A {
-		made.A = append(made.A, f.look(part))
+	lets, body := chain.Lets(e)
+	if len(lets) == 0 {
+		return api.Expr{Kind: e.Kind, Text: e.Text, A: f.lookAt(nil, e.A...)}
 	}
-	if e.Kind != api.ELet {
-		return made
+	one := api.Expr{Kind: api.ELet}
+	for _, let := range lets {
+		one.Names, one.A = append(one.Names, let.Names...), f.lookAt(one.A, let.A...)
 	}
-	f.found[e.Names[0]] = f.foundIn(made)
-	demanded, all := f.demands(made)
+	one.A = f.lookAt(one.A, body)
+	found := f.foundIn(one)
+	for _, let := range lets {
+		f.found[let.Names[0]] = found
+	}
+	return f.shortened(one)
+}
+
+// lookAt puts behind l what look answers of others.
+func (f foresight) lookAt(l []api.Expr, others ...api.Expr) []api.Expr {
+	for _, e := range others {
+		l = append(l, f.look(e))
+	}
+	return l
+}
+
+// shortened is a term that demands what a let does.
+func (f foresight) shortened(let api.Expr) api.Expr {
+	demanded, all := f.demands(let)
 	if all {
 		return api.Expr{Kind: api.EPrim, Text: "error", A: []api.Expr{{Kind: api.ENil}}}
 	}
@@ -112,12 +131,16 @@ func (f foresight) foundIn(e api.Expr) names {
 // order is how a let's values are gone about, by their places: those that are reckoned outright, those that there are cells for, and those of these that are reckoned before all else.
 type order struct{ outright, cells, first []int }
 
-// order is that of a let. What asks for a value that is not there yet can't be reckoned outright.
-func (f foresight) order(e api.Expr) (o order) {
+func (o order) early() int {
+	return len(o.outright) + len(o.first)
+}
+
+// order is that of a let of which so many values at most are reckoned early. What asks for a value that is not there yet can't be reckoned outright.
+func (f foresight) order(e api.Expr, most int) (o order) {
 	must, open := f.found[e.Names[0]], names{}
 	open.add(e.Names...)
 	for i, name := range e.Names {
-		early := must.has(name) && !isMade(e.A[i]) && len(o.outright)+len(o.first) < mostEarly
+		early := must.has(name) && !isMade(e.A[i]) && o.early() < most
 		if early && !open.isIn(e.A[i]) {
 			o.outright = append(o.outright, i)
 			delete(open, name)
@@ -160,5 +183,10 @@ func (n names) has(name string) bool {
 
 // isIn tells whether e asks for one of them. As no name is bound twice, nothing in e hides one.
 func (n names) isIn(e api.Expr) bool {
-	return e.Kind == api.EVar && n.has(e.Text) || slices.ContainsFunc(e.A, n.isIn)
+	for x, ahead := range chain.Of(e) {
+		if x.Kind == api.EVar && n.has(x.Text) || slices.ContainsFunc(ahead, n.isIn) {
+			return true
+		}
+	}
+	return false
 }

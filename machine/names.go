@@ -4,6 +4,7 @@ import (
 	"strconv"
 
 	"thunk/api"
+	"thunk/chain"
 )
 
 // namer gives each name that a program binds a new one, a number, so that no two are one: what stands for it is found by its name alone then, and chapter 8 may be asked of the whole.
@@ -52,6 +53,19 @@ func (n *namer) name(name string) string {
 }
 
 func (n *namer) term(e api.Expr) api.Expr {
+	lets, body := chain.Lets(e)
+	var bound []string
+	for i, let := range lets {
+		bound = append(bound, let.Names...)
+		lets[i] = n.parts(let)
+	}
+	made := chain.Join(append(lets, n.parts(body))...)
+	n.release(bound...)
+	return made
+}
+
+// parts is e with new names in its parts. What a let binds is bound from then on.
+func (n *namer) parts(e api.Expr) api.Expr {
 	made := api.Expr{Kind: e.Kind, Text: e.Text, Names: n.bind(e.Names...)}
 	if e.Kind == api.EVar {
 		made.Text = n.name(e.Text)
@@ -59,6 +73,5 @@ func (n *namer) term(e api.Expr) api.Expr {
 	for _, part := range e.A {
 		made.A = append(made.A, n.term(part))
 	}
-	n.release(e.Names...)
 	return made
 }

@@ -77,13 +77,26 @@ func slotsOf(l ...*term) []int {
 // slotSet is some slots, none twice.
 type slotSet map[int]struct{}
 
-// look goes through terms. What a term binds nothing around it can ask for, as no slot is bound twice: so it may be taken out again behind it.
+// look goes through terms.
 func (s slotSet) look(l ...*term) {
 	for _, t := range l {
-		if t.kind == variable {
-			s[t.place] = struct{}{}
+		s.lookAt(t)
+	}
+}
+
+// lookAt goes through t, then its last part, and so on. What a term binds nothing around it can ask for, as no slot is bound twice: so it may be taken out again behind it.
+func (s slotSet) lookAt(t *term) {
+	binding := []*term{}
+	for ; len(t.parts) > 0; t = t.parts[len(t.parts)-1] {
+		s.look(t.parts[:len(t.parts)-1]...)
+		if t.binds() > 0 {
+			binding = append(binding, t)
 		}
-		s.look(t.parts...)
+	}
+	if t.kind == variable {
+		s[t.place] = struct{}{}
+	}
+	for _, t := range binding {
 		for i := range t.binds() {
 			delete(s, t.place+i)
 		}

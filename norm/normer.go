@@ -5,6 +5,7 @@ import (
 	"strconv"
 
 	"thunk/api"
+	"thunk/chain"
 )
 
 // names are those of arguments, one after the other.
@@ -25,8 +26,17 @@ type named struct {
 	e    api.Expr
 }
 
-// term is e, normed. An argument's own parts get their names ahead of it.
+// term is e, normed. What a let's last part is comes behind its values.
 func (n *normer) term(e api.Expr) api.Expr {
+	lets, body := chain.Lets(e)
+	for i, let := range lets {
+		lets[i] = n.parts(let)
+	}
+	return chain.Join(append(lets, n.parts(body))...)
+}
+
+// parts is e with its parts normed, those of them named that have to be. An argument's own parts get their names ahead of it.
+func (n *normer) parts(e api.Expr) api.Expr {
 	made := api.Expr{Kind: e.Kind, Text: e.Text, Names: append([]string(nil), e.Names...)}
 	first := firstArgument(e)
 	var values []named

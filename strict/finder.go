@@ -4,6 +4,7 @@ import (
 	"slices"
 
 	"thunk/api"
+	"thunk/chain"
 )
 
 // nobody is where a term stands that is in no function with a name.
@@ -19,14 +20,16 @@ type finder struct {
 
 // term goes through e, which stands in the function of that number, or, as more is looked at again then than need be, in one without a name within that.
 func (f *finder) term(e api.Expr, in int) {
-	switch e.Kind {
-	case api.ELet:
-		f.let(e, in)
-		return
-	case api.EApp:
-		f.call(partOf(e, 0), in)
+	for x, ahead := range chain.Of(e) {
+		switch x.Kind {
+		case api.ELet:
+			f.let(x, in, ahead...)
+			continue
+		case api.EApp:
+			f.call(partOf(x, 0), in)
+		}
+		f.terms(in, ahead...)
 	}
-	f.terms(in, e.A...)
 }
 
 func (f *finder) terms(in int, l ...api.Expr) {
@@ -41,21 +44,21 @@ func (f *finder) call(e api.Expr, in int) {
 	}
 }
 
-// let takes in all functions of a let ahead of those within its parts.
-func (f *finder) let(e api.Expr, in int) {
+// let takes in all functions of a let ahead of those within its values.
+func (f *finder) let(e api.Expr, in int, values ...api.Expr) {
 	first := len(f.needs)
 	for i, name := range e.Names {
 		if value := partOf(e, i); value.Kind == api.ELam {
 			f.function(name, value)
 		}
 	}
-	for i, part := range e.A {
-		if i < len(e.Names) && part.Kind == api.ELam {
-			f.terms(first, part.A...)
+	for i, value := range values {
+		if i < len(e.Names) && value.Kind == api.ELam {
+			f.terms(first, value.A...)
 			first++
 			continue
 		}
-		f.term(part, in)
+		f.term(value, in)
 	}
 }
 

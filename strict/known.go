@@ -1,7 +1,10 @@
 package strict
 
 import (
+	"slices"
+
 	"thunk/api"
+	"thunk/chain"
 )
 
 // known is of functions, by their names, which of their parameters they must have.
@@ -35,7 +38,7 @@ func (k known) demandOf(e api.Expr) demand {
 	case api.EApp:
 		return k.call(e)
 	case api.ELet:
-		return k.let(e)
+		return k.lets(e)
 	}
 	return demand{}
 }
@@ -93,12 +96,26 @@ func (a *asked) take(d demand) {
 	a.demand = together(a.demand, d)
 }
 
-func (k known) let(e api.Expr) demand {
+// lets is what the lets that e begins with demand, from the innermost out. Of what is no right term e may be none of these.
+func (k known) lets(e api.Expr) demand {
+	lets, body := chain.Lets(e)
+	if len(lets) == 0 {
+		lets, body = []api.Expr{e}, partOf(e, len(e.Names))
+	}
+	d := k.demandOf(body)
+	for _, let := range slices.Backward(lets) {
+		d = k.let(let, d)
+	}
+	return d
+}
+
+// let is what a let demands whose last part demands d.
+func (k known) let(e api.Expr, d demand) demand {
 	a := asked{values: make(map[string]api.Expr, len(e.Names))}
 	for i, name := range e.Names {
 		a.values[name] = partOf(e, i)
 	}
-	a.take(k.demandOf(partOf(e, len(e.Names))))
+	a.take(d)
 	for len(a.next) > 0 {
 		value := a.next[len(a.next)-1]
 		a.next = a.next[:len(a.next)-1]
